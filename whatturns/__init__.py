@@ -1,0 +1,1 @@
+"""Whatturns: which changes of a store turn the answer of a question."""
