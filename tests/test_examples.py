@@ -4,8 +4,11 @@ import unittest
 
 from tests.helpers import FREE, RICH, S, T, example_store
 from whatturns.errors import InvalidStore
+from whatturns.forms import Form
 from whatturns.questions import First, Groups, Select
+from whatturns.readers import read_question
 from whatturns.stores import Store
+from whatturns.turning import turners
 
 
 class Examples(unittest.TestCase):
@@ -34,4 +37,22 @@ class Examples(unittest.TestCase):
         self.assertEqual(found, [(("ann", 5),), ((2, 5),)])
 
     def test_text(self):
-        self.assertEqual(FREE.text(), "from t as u without s as w where w.b = u.a keep u.a")
+        found = [FREE.text(), read_question(FREE.text()) == FREE]
+        self.assertEqual(found, ["from t as u without s as w where w.b = u.a keep u.a", True])
+
+    def test_forms(self):
+        rich = Form.compare(T, "p", ">=", 4) - Form.compare(T, "a", "=", "ann")
+        self.assertEqual([rich(("bob", 4)), rich(("ann", 4)), rich.leaves()], [True, False, (False, True)])
+        self.assertEqual(rich.tree, (
+            "names", (("ann", ("numbers", (), (("leaf", False),))),), None,
+            ("numbers", (3,), (("leaf", False), ("leaf", True)))))
+        self.assertEqual(list(rich.pieces()), [
+            ((("a", "=", "ann"),), False), ((("a", "!=", "ann"), ("p", "<=", 3)), False),
+            ((("a", "!=", "ann"), ("p", ">=", 4)), True)])
+        self.assertEqual(Form.compare(S, "b", "=", ".c").tree,
+                         ("names", (), None, ("names", (), ("leaf", True), ("leaf", False))))
+
+    def test_turners(self):
+        found = turners(RICH, example_store())
+        told = [found.inserts("t")(("cat", 4)), found.deletes("t"), found.relevant("t"), found.relevant("s")]
+        self.assertEqual(told, [True, (("ann", 5),), (("ann", 5),), ()])

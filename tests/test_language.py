@@ -108,6 +108,40 @@ class Words(unittest.TestCase):
             if isinstance(node, ast.Call) and isinstance(node.func, ast.Attribute):
                 self.assertIn(node.func.attr, METHODS | own)
 
+    def test_names_of_methods_and_attributes(self):
+        nodes = [node for tree in trees().values() for node in ast.walk(tree)]
+        methods = [part for node in nodes if isinstance(node, ast.ClassDef) for part in node.body
+                   if isinstance(part, ast.FunctionDef)]
+        names = {method.name for method in methods}
+        stored = {node.attr for node in nodes if isinstance(node, ast.Attribute) and isinstance(node.ctx, ast.Store)}
+        self.assertEqual(names & stored, set())
+        decorated = {method.name for method in methods if method.decorator_list}
+        plain = {method.name for method in methods if not method.decorator_list}
+        self.assertEqual(decorated & plain, set())
+        generators = [node.name for node in nodes if isinstance(node, ast.FunctionDef)
+                      and any(isinstance(part, (ast.Yield, ast.YieldFrom)) for part in ast.walk(node))]
+        functions = [node.name for node in nodes if isinstance(node, ast.FunctionDef)]
+        for name in generators:
+            self.assertEqual(functions.count(name), 1)
+
+    def test_names_of_one_file_have_one_meaning(self):
+        for path, tree in trees().items():
+            nodes = list(ast.walk(tree))
+            imported = {alias.name for node in nodes if isinstance(node, ast.ImportFrom) for alias in node.names}
+            defined = {part.name for part in tree.body if isinstance(part, (ast.FunctionDef, ast.ClassDef))}
+            assigned = {node.id for node in nodes if isinstance(node, ast.Name) and isinstance(node.ctx, ast.Store)}
+            assigned |= {node.arg for node in nodes if isinstance(node, ast.arg)}
+            self.assertEqual((imported | defined) & assigned, set(), path)
+            self.assertEqual(imported & defined, set(), path)
+            used = {node.id for node in nodes if isinstance(node, ast.Name) and isinstance(node.ctx, ast.Load)}
+            self.assertEqual(imported - used, set(), path)
+
+    def test_is_only_with_none_true_and_false(self):
+        for path, tree in trees().items():
+            for node in ast.walk(tree):
+                if isinstance(node, ast.Compare) and isinstance(node.ops[0], (ast.Is, ast.IsNot)):
+                    self.assertIsInstance(node.comparators[0], ast.Constant, path)
+
     def test_sorted_and_the_like_take_lists(self):
         for path, tree in trees().items():
             for node in ast.walk(tree):

@@ -14,7 +14,11 @@ class Condition:
         self.right = scope.get(operand)
         self.value = operand
         # The condition can be judged as soon as this use has its row.
-        self.last = self.left.place if self.right is None else max(self.left.place, self.right.place)
+        self.last = max([spot.place for spot in self.spots()])
+
+    def spots(self):
+        """The spots of its columns."""
+        return [self.left] if self.right is None else [self.left, self.right]
 
     def holds(self, rows):
         """Whether it holds with these rows."""
@@ -22,13 +26,35 @@ class Condition:
         return compares(self.left.value_in(rows), self.operator, other)
 
 
+class Without:
+    """A without of a question, made ready for the matches of the uses outside it."""
+
+    def __init__(self, uses, conditions, outside, tables):
+        self.uses = uses
+        self.ready = conditions_of(conditions, scope_of(outside + uses, tables))
+        spots = [spot for ready in self.ready for spot in ready.spots()]
+        self.outer = [spot for spot in spots if spot.place < len(outside)]
+
+    def key_of(self, rows):
+        """What is to be known of the rows outside; a row that is not known is None."""
+        return tuple([None if rows[spot.place] is None else spot.value_in(rows) for spot in self.outer])
+
+
+class Body:
+    """The uses, conditions and withouts of a select or a groups, made ready."""
+
+    def __init__(self, uses, where, without, tables):
+        self.uses = uses
+        self.ready = conditions_of(where, scope_of(uses, tables))
+        self.withouts = [Without(inner, conditions, uses, tables) for inner, conditions in without]
+
+
 def matches_of(uses, where, without, store):
     """The matches in the store, ascending, of what is a body for its tables."""
-    tables = store.tables
-    found = lengthened((), uses, conditions_of(where, scope_of(uses, tables)), store)
-    for inner, conditions in without:
-        ready = conditions_of(conditions, scope_of(uses + inner, tables))
-        found = [match for match in found if not lengthened(match, inner, ready, store)]
+    body = Body(uses, where, without, store.tables)
+    found = lengthened((), uses, body.ready, store)
+    for part in body.withouts:
+        found = _not_excluded(found, part, store)
     return tuple(found)
 
 
@@ -45,6 +71,19 @@ def lengthened(start, uses, conditions, store):
         rows = store.rows_of(name)
         found = [(*begun, row) for begun in found for row in rows if _all_hold(due, (*begun, row))]
     return found
+
+
+def _not_excluded(matches, part, store):
+    """The matches that the without does not exclude."""
+    left, excluded = [], {}
+    for match in matches:
+        # Matches that are the same in the columns that the without mentions are excluded together.
+        key = part.key_of(match)
+        if key not in excluded:
+            excluded[key] = len(lengthened(match, part.uses, part.ready, store)) > 0
+        if not excluded[key]:
+            left.append(match)
+    return left
 
 
 def _all_hold(conditions, rows):

@@ -1,0 +1,17 @@
+"""What is checked of questions that are passed together with a store or tables."""
+
+from whatturns.errors import InvalidQuestion
+from whatturns.questions import First, Groups, Select, Union
+
+
+def is_question(thing):
+    """Whether it is an object of one of the four classes of questions."""
+    kinds = [isinstance(thing, Select), isinstance(thing, Union), isinstance(thing, First), isinstance(thing, Groups)]
+    return any(kinds)
+
+
+def check_question(question, tables):
+    """Raise InvalidQuestion for any value that is no question for these tables."""
+    if not is_question(question):
+        raise InvalidQuestion()
+    question.check(*tables)
