@@ -3,12 +3,15 @@
 import unittest
 
 from tests.helpers import FREE, RICH, S, T, example_store
+from whatturns.boards import Board
+from whatturns.effects import effect, reasons
 from whatturns.errors import InvalidStore
 from whatturns.forms import Form
 from whatturns.questions import First, Groups, Select
 from whatturns.readers import read_question
 from whatturns.stores import Store
 from whatturns.turning import turners
+from whatturns.watching import Watch
 
 
 class Examples(unittest.TestCase):
@@ -56,3 +59,21 @@ class Examples(unittest.TestCase):
         found = turners(RICH, example_store())
         told = [found.inserts("t")(("cat", 4)), found.deletes("t"), found.relevant("t"), found.relevant("s")]
         self.assertEqual(told, [True, (("ann", 5),), (("ann", 5),), ()])
+
+    def test_effects(self):
+        store = example_store()
+        found = [effect(FREE, store, ("replace", "s", ("ann", "cat"), ("bob", "cat"))),
+                 reasons(FREE, store, ("insert", "s", ("bob", "dog")))]
+        self.assertEqual(found, [((("ann",),), (("bob",),)),
+                                 ((), ((("bob",), (("bob", 3),), ("without", 0, (("bob", "dog"),))),))])
+
+    def test_watches(self):
+        watch = Watch(FREE, example_store())
+        found = [watch.do(("delete", "s", ("ann", "cat"))), watch.answer, watch.ways(("ann",))]
+        self.assertEqual(found, [((((("ann", 5),),), ()),), (("ann",), ("bob",)), 1])
+
+    def test_boards(self):
+        board = Board(example_store())
+        found = [board.stand(RICH), board.stand(FREE), board.turned_by(("insert", "t", ("cat", 9))),
+                 board.do(("delete", "t", ("bob", 3)))]
+        self.assertEqual(found, [0, 1, (0, 1), (1,)])

@@ -169,7 +169,8 @@ class Trees(unittest.TestCase):
                 ((T, "p", ">=", 4), ("names", (), None, ("numbers", (3,), (NO_LEAF, LEAF)))),
                 ((T, "p", "=", 4), ("names", (), None, ("numbers", (3, 4), (NO_LEAF, LEAF, NO_LEAF)))),
                 ((T, "p", "!=", 4), ("names", (), None, ("numbers", (3, 4), (LEAF, NO_LEAF, LEAF)))),
-                ((S, "b", "=", "x"), ("names", (("x", ("names", (), None, LEAF)),), None, ("names", (), None, NO_LEAF))),
+                ((S, "b", "=", "x"),
+                 ("names", (("x", ("names", (), None, LEAF)),), None, ("names", (), None, NO_LEAF))),
                 ((S, "c", "!=", "x"), ("names", (), None, ("names", (("x", NO_LEAF),), None, LEAF))),
                 ((S, "b", "=", ".c"), ("names", (), None, ("names", (), LEAF, NO_LEAF))),
                 ((S, "c", "=", ".b"), ("names", (), None, ("names", (), LEAF, NO_LEAF))),
@@ -339,10 +340,12 @@ class Reading(unittest.TestCase):
         self.assertEqual(Form.read(T, good), Form.compare(T, "a", "!=", "ann"))
         for tree in [
                 list(good), good[:3], good + (None,), ("numbers",) + good[1:], ("names", (("ann", flat),), None, flat),
-                ("names", (("ann", other), ("ann", other)), None, flat), ("names", (("b", other), ("a", other)), None, flat),
+                ("names", (("ann", other), ("ann", other)), None, flat),
+                ("names", (("b", other), ("a", other)), None, flat),
                 ("names", [("ann", other)], None, flat), ("names", (["ann", other],), None, flat),
                 ("names", (("Ann", other),), None, flat), ("names", ((1, other),), None, flat),
-                ("names", (("ann", other, other),), None, flat), ("names", (), flat, other), ("names", (), other, other),
+                ("names", (("ann", other, other),), None, flat), ("names", (), flat, other),
+                ("names", (), other, other),
                 ("names", (), False, flat), ("names", None, None, flat), ("names", (), None, LEAF),
                 ("names", (), None, ("names", (), None, LEAF)), flat, LEAF,
                 ("names", (), None, ("numbers", (4,), (LEAF, LEAF))), ("names", (), None, ("numbers", (4,), (LEAF,))),
@@ -356,13 +359,16 @@ class Reading(unittest.TestCase):
                 ("names", (), None, ("numbers", (4,), (LEAF, ("leaf", 0)))),
                 ("names", (), None, ("numbers", (4,), (LEAF, ("leaf", 2)))),
                 ("names", (), None, ("numbers", (4,), (("leaf", 1), ("leaf", (1,))))),
-                ("names", (), None, ("numbers", (), (("leaf", None),))), ("names", (), None, ("numbers", (), (("leaf",),))),
-                ("names", (), None, ("numbers", (), (("leaf", (2, 1)),))), ("names", (), None, ("numbers", (), (True,))),
+                ("names", (), None, ("numbers", (), (("leaf", None),))),
+                ("names", (), None, ("numbers", (), (("leaf",),))),
+                ("names", (), None, ("numbers", (), (("leaf", (2, 1)),))),
+                ("names", (), None, ("numbers", (), (True,))),
                 ("names", (("ann", ("numbers", (), (("leaf", 1),))),), None, flat)]:
             self.assertRaises(InvalidForm, Form.read, T, tree)
 
     def test_trees_of_two_name_columns(self):
-        self.assertEqual(Form.read(S, ("names", (), None, ("names", (), LEAF, NO_LEAF))), Form.compare(S, "b", "=", ".c"))
+        alike = Form.compare(S, "b", "=", ".c")
+        self.assertEqual(Form.read(S, ("names", (), None, ("names", (), LEAF, NO_LEAF))), alike)
         for tree in [
                 ("names", (), None, ("names", (), LEAF, LEAF)), ("names", (), LEAF, ("names", (), None, LEAF)),
                 ("names", (), ("names", (), None, NO_LEAF), ("names", (), None, LEAF)),

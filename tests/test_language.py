@@ -32,6 +32,27 @@ def trees():
     return {path: ast.parse(path.read_text()) for path in FILES}
 
 
+def called_name(node):
+    return node.func.id if isinstance(node, ast.Call) and isinstance(node.func, ast.Name) else None
+
+
+def is_lazy(function):
+    if isinstance(function, ast.Attribute):
+        return function.attr in ("items", "keys", "values")
+    return isinstance(function, ast.Name) and function.id in ("zip", "enumerate", "reversed", "range", "map")
+
+
+def is_iterated(node, above):
+    if isinstance(above, (ast.For, ast.comprehension)):
+        return above.iter is node
+    return called_name(above) in ("list", "tuple", "dict", "sorted", "sum", "any", "all", "enumerate", "zip", "min",
+                                  "max", "reversed", "len")
+
+
+def is_set(node):
+    return isinstance(node, (ast.SetComp, ast.Set)) or called_name(node) == "set"
+
+
 class Files(unittest.TestCase):
     def test_plain_files_in_one_folder(self):
         for path in FILES:
@@ -135,6 +156,17 @@ class Words(unittest.TestCase):
             self.assertEqual(imported & defined, set(), path)
             used = {node.id for node in nodes if isinstance(node, ast.Name) and isinstance(node.ctx, ast.Load)}
             self.assertEqual(imported - used, set(), path)
+
+    def test_what_is_iterated_at_once(self):
+        for path, tree in trees().items():
+            above = {child: node for node in ast.walk(tree) for child in ast.iter_child_nodes(node)}
+            for node in ast.walk(tree):
+                if isinstance(node, ast.Call) and is_lazy(node.func):
+                    self.assertTrue(is_iterated(node, above[node]), (path, node.lineno))
+                if is_set(node):
+                    self.assertIn(called_name(above[node]), ("sorted", "len"), (path, node.lineno))
+                if isinstance(node, ast.Call):
+                    self.assertIsInstance(node.func, (ast.Name, ast.Attribute), (path, node.lineno))
 
     def test_is_only_with_none_true_and_false(self):
         for path, tree in trees().items():

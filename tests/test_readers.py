@@ -56,7 +56,7 @@ class Examples(unittest.TestCase):
     def test_words_of_the_language_as_names(self):
         for text in ["from from as from keep from.from", "from where as keep where keep.or = by keep keep.first",
                      "from as as as, or as or without without as without where or.or = without.or keep as.as",
-                     "from group as group group group.group least group.least greatest group.greatest having count <= 1",
+                     "from group as group group group.group least group.least greatest group.by having count <= 1",
                      "from first as first keep first.by first 1 by first.by falling",
                      "from or as or keep or.or or from or as or keep or.or"]:
             self.assertTrue(is_read(text), text)
@@ -67,7 +67,7 @@ class Examples(unittest.TestCase):
                      "from t as u without t as u, t as u, t as u without t as u without t as u keep u.a",
                      "from t as u keep u.a or from t as u keep u.a, u.a",
                      "from t as u keep u.a first 1 by w.z",
-                     "from t as u group u.a, u.a, u.a least x.x greatest x.x having least <= 1, least <= 1, greatest >= 0",
+                     "from t as u group u.a, u.a, u.a least x.x greatest x.x having least <= 1, least <= 1",
                      "from t as u group having least <= 1"]:
             self.assertTrue(is_read(text), text)
 
@@ -78,10 +78,13 @@ class NoTexts(unittest.TestCase):
             self.assertRaises(InvalidText, read_question, thing)
 
     def test_wrong_texts(self):
-        for text in ["from t as u", "from keep u.a", "from t u keep u.a", "from t as u keep", "keep u.a", "from t as u keep u",
+        for text in ["from t as u", "from keep u.a", "from t u keep u.a", "from t as u keep", "keep u.a",
+                     "from t as u keep u",
                      "From t as u keep u.a", "from t as u keep u.a ", " from t as u keep u.a", "from t  as u keep u.a",
-                     "from t as u keep u.a,", "from t as u keep ,u.a", "from t as u keep u.a , u.b", "from t as u, keep u.a",
-                     "from t as u keep u.a,u.b", "from t as u keep u.a u.b", "from t as u keep u.a.b", "from t as u keep .a",
+                     "from t as u keep u.a,", "from t as u keep ,u.a", "from t as u keep u.a , u.b",
+                     "from t as u, keep u.a",
+                     "from t as u keep u.a,u.b", "from t as u keep u.a u.b", "from t as u keep u.a.b",
+                     "from t as u keep .a",
                      "from t as u keep u.", "from t as u where keep u.a", "from t as u where u.a = keep u.a",
                      "from t as u where u.a ann keep u.a", "from t as u where u.a == ann keep u.a",
                      "from t as u where u.a < ann keep u.a", "from t as u where ann = u.a keep u.a",
@@ -98,8 +101,10 @@ class NoTexts(unittest.TestCase):
                      "from t as u keep u.a first 1 by u.a falling falling", "from t as u keep u.a falling",
                      "from t as u keep u.a first 1 by u.a, u.a", "from t as u keep u.a first one by u.a",
                      "from t as u keep u.a group", "from t as u group keep u.a", "from t as u group u.a,",
-                     "from t as u group least", "from t as u group least u.p, u.q", "from t as u group greatest u.p least u.p",
-                     "from t as u group least u.p least u.p", "from t as u group having", "from t as u group having count = 1",
+                     "from t as u group least", "from t as u group least u.p, u.q",
+                     "from t as u group greatest u.p least u.p",
+                     "from t as u group least u.p least u.p", "from t as u group having",
+                     "from t as u group having count = 1",
                      "from t as u group having count != 1", "from t as u group having count >= u.p",
                      "from t as u group having counts >= 1", "from t as u group having count >= one",
                      "from t as u group having count >= 1 least u.p", "from t as u group first 1 by u.p",

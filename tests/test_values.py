@@ -15,7 +15,8 @@ class Integers(unittest.TestCase):
     def test_words(self):
         for word in ("0", "7", "10", "-1", "-120", "123456789012"):
             self.assertIs(is_number_word(word), True, word)
-        for word in ("", "-", "-0", "00", "01", "-01", "+1", "--1", "1-", "1.0", " 1", "1 ", "a", "1a", "1_0", "1\n", "\u0663", "\u00b2"):
+        for word in ("", "-", "-0", "00", "01", "-01", "+1", "--1", "1-", "1.0", " 1", "1 ", "a", "1a", "1_0", "1\n",
+                     "\u0663", "\u00b2"):
             self.assertIs(is_number_word(word), False, word)
 
 

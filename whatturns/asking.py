@@ -15,3 +15,15 @@ def check_question(question, tables):
     if not is_question(question):
         raise InvalidQuestion()
     question.check(*tables)
+
+
+def copy_of(question):
+    """The same question as an object of its own."""
+    if isinstance(question, Select):
+        return Select(question.uses, question.keep, question.where, question.without)
+    if isinstance(question, Union):
+        return Union(copy_of(question.first), copy_of(question.second))
+    if isinstance(question, First):
+        return First(copy_of(question.select), question.by, question.count, question.falling)
+    return Groups(question.uses, question.by, question.where, question.without, question.least, question.greatest,
+                  question.having)

@@ -19,19 +19,19 @@ class RowsPlan:
 
     def __init__(self, parts, answer):
         self.parts = parts
-        self.answer = answer
+        self.before = answer
         self.bound = None
 
     def cut(self, place, count, falling):
         """Set the bound (place, operator, number) of a first that keeps so many rows by the value at the place."""
         # Rows beyond the last one of the answer stay out of it only if the answer has enough rows without them.
-        if len(self.answer) >= count:
-            numbers = [row[place] for row in self.answer]
+        if len(self.before) >= count:
+            numbers = [row[place] for row in self.before]
             self.bound = (place, ">=", min(numbers)) if falling else (place, "<=", max(numbers))
 
     def compared(self):
         """(spot, values) for what the columns of rows are compared with, beside the conditions."""
-        return [(spot, [row[place] for row in self.answer]) for part in self.parts
+        return [(spot, [row[place] for row in self.before]) for part in self.parts
                 for place, spot in enumerate(part.told)]
 
 

@@ -1,4 +1,4 @@
-"""Which single changes of one table turn an answer."""
+"""Which single changes of one table turn an answer: as it is asked, and as data tell it."""
 
 from whatturns.forms import Form
 from whatturns.grids import Grid
@@ -8,63 +8,82 @@ from whatturns.worlds import (candidates_beside, candidates_in, impossible_world
                               worlds_after_inserts, worlds_after_replaces)
 
 
-class TableTurns:
-    """The form of the inserts that turn the answer, and (row, deleted, form of the replaces) for each relevant row.
+class ToldTurns:
+    """The form of the inserts that turn the answer, and (row, deleted, form of the replaces) for each relevant row."""
 
-    The rows are those that are there, or None if that is not known.
-    """
-
-    def __init__(self, inserted, relevant, rows):
+    def __init__(self, inserted, rows):
         self.inserted = inserted
-        self.relevant_rows = relevant
         self.rows = rows
+
+    def deleted_rows(self):
+        """The rows whose delete turns the answer, ascending."""
+        return tuple([row for row, deleted, _ in self.rows if deleted])
+
+    def relevant_rows(self):
+        """(row, deleted, form) for each relevant row, ascending."""
+        return self.rows
 
     def replaced(self, row):
         """The form of the replaces of a row."""
-        for other, _, form in self.relevant_rows:
+        for other, _, form in self.rows:
             if other == row:
                 return form
         return self.inserted
 
-    def data(self):
-        """The trees of the forms, and what is told of the relevant rows."""
-        rows = [(row, deleted, form.tree) for row, deleted, form in self.relevant_rows]
-        return self.inserted.tree, tuple(rows)
+
+class AskedTurns:
+    """What is found out of the question of a plan in a store; replaces and deletes as soon as they are asked for."""
+
+    def __init__(self, plan, store, table):
+        self.plan = plan
+        self.store = store
+        self.table = table
+        self.rows = store.rows_of(table.name)
+        self.grid = Grid(table, values_that_matter(plan, store, table), links_names(plan, table))
+        self.worlds = worlds_after_inserts(store, table, self.grid)
+        self.candidates = [candidates_in(part.body, self.worlds) for part in plan.parts]
+        barred = impossible_worlds(self.worlds, table, ())
+        self.inserted = self._form(turned_worlds(plan, self.worlds, self.candidates, barred))
+        self.forms = {}
+        self.deleted = None
+
+    def deleted_rows(self):
+        """The rows whose delete turns the answer, ascending."""
+        if self.deleted is None:
+            worlds = worlds_after_deletes(self.store, self.table)
+            candidates = [candidates_in(part.body, worlds) for part in self.plan.parts]
+            turned = turned_worlds(self.plan, worlds, candidates, 0)
+            self.deleted = tuple([row for number, row in enumerate(self.rows) if turned >> number & 1])
+        return self.deleted
+
+    def relevant_rows(self):
+        """(row, deleted, form) for each relevant row, ascending."""
+        deleted = self.deleted_rows()
+        told = [(row, row in deleted, self.replaced(row)) for row in self.rows]
+        return tuple([(row, gone, form) for row, gone, form in told if gone or form != self.inserted])
+
+    def replaced(self, row):
+        """The form of the replaces of a row that is there."""
+        if row not in self.forms:
+            after = worlds_after_replaces(self.worlds, row)
+            left = [candidates_beside(part.body, pairs, self.table.name, row)
+                    for part, pairs in zip(self.plan.parts, self.candidates)]
+            barred = impossible_worlds(after, self.table, (row,))
+            self.forms[row] = self._form(turned_worlds(self.plan, after, left, barred))
+        return self.forms[row]
+
+    def _form(self, cells):
+        """The form that is true in these cells of the grid alone."""
+        return Form(self.table, self.grid.tree_of(cells))
 
 
-def table_turns(plan, store, table):
+def asked_turns(plan, store, table):
     """What turns the answer of the question of this plan."""
-    rows = store.rows_of(table.name)
-    if table.name not in tables_in(plan):
-        return TableTurns(Form.constant(table, False), (), rows)
-    grid = Grid(table, values_that_matter(plan, store, table), links_names(plan, table))
-    worlds = worlds_after_inserts(store, table, grid)
-    candidates = [candidates_in(part.body, worlds) for part in plan.parts]
-    inserted = grid.tree_of(turned_worlds(plan, worlds, candidates, impossible_worlds(worlds, table, ())))
-    deleted = _deleted(plan, store, table)
-    relevant = []
-    for row in rows:
-        replaced = grid.tree_of(_replaced(plan, worlds, candidates, table, row))
-        if row in deleted or replaced != inserted:
-            relevant.append((row, row in deleted, Form(table, replaced)))
-    return TableTurns(Form(table, inserted), tuple(relevant), rows)
+    if table.name in tables_in(plan):
+        return AskedTurns(plan, store, table)
+    return ToldTurns(Form.constant(table, False), ())
 
 
-def _deleted(plan, store, table):
-    """The rows whose delete turns the answer."""
-    worlds = worlds_after_deletes(store, table)
-    turned = turned_worlds(plan, worlds, [candidates_in(part.body, worlds) for part in plan.parts], 0)
-    return [row for number, row in enumerate(store.rows_of(table.name)) if turned >> number & 1]
-
-
-def _replaced(plan, worlds, candidates, table, row):
-    """The cells of the rows by which the replace of this row turns the answer."""
-    after = worlds_after_replaces(worlds, row)
-    left = [candidates_beside(part.body, pairs, table.name, row) for part, pairs in zip(plan.parts, candidates)]
-    return turned_worlds(plan, after, left, impossible_worlds(after, table, (row,)))
-
-
-def read_table_turns(table, tree, rows):
-    """The turns of a table from their data."""
-    relevant = tuple([(row, deleted, Form(table, below)) for row, deleted, below in rows])
-    return TableTurns(Form(table, tree), relevant, None)
+def read_turns(table, tree, rows):
+    """What the data of turners tell of a table."""
+    return ToldTurns(Form(table, tree), tuple([(row, deleted, Form(table, below)) for row, deleted, below in rows]))

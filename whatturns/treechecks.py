@@ -36,14 +36,10 @@ def _is_node(thing, table, place, below_others):
     if not isinstance(thing, tuple):
         return False
     if place == len(table.columns):
-        return len(thing) == 2 and _is_word(thing[0], "leaf") and is_leaf(thing[1])
+        return len(thing) == 2 and thing[0] == "leaf" and is_leaf(thing[1])
     if place < len(table.names):
-        return len(thing) == 4 and _is_word(thing[0], "names") and _is_names_node(thing, table, place, below_others)
-    return len(thing) == 3 and _is_word(thing[0], "numbers") and _is_numbers_node(thing, table, place)
-
-
-def _is_word(thing, word):
-    return isinstance(thing, str) and thing == word
+        return len(thing) == 4 and thing[0] == "names" and _is_names_node(thing, table, place, below_others)
+    return len(thing) == 3 and thing[0] == "numbers" and _is_numbers_node(thing, table, place)
 
 
 def _is_names_node(node, table, place, below_others):

@@ -21,12 +21,12 @@ def turned_worlds(plan, worlds, candidates, impossible):
 def _turned_by_rows(plan, worlds, candidates, impossible):
     """The worlds in which a row of the answer has no match any more, or a row comes."""
     turned = impossible
-    matched = {row: 0 for row in plan.answer}
+    matched = {row: 0 for row in plan.before}
     indexes = {}
     for kept, found in _by_kept(plan, worlds, candidates).items():
         open_places = tuple([place for place, value in enumerate(kept) if isinstance(value, tuple)])
         if open_places not in indexes:
-            indexes[open_places] = _index_of(plan.answer, open_places)
+            indexes[open_places] = _index_of(plan.before, open_places)
         ready = indexes[open_places].get(_closed(kept, open_places), [])
         known = turned | matched[kept] if kept in matched else turned
         here = _matched_worlds(found, worlds.full ^ known)
@@ -38,7 +38,7 @@ def _turned_by_rows(plan, worlds, candidates, impossible):
             # Rows that fit the same open places are equal to what is kept in different worlds.
             here = here ^ equal
         turned = turned | _within_bound(plan.bound, kept, here, worlds)
-    for row in plan.answer:
+    for row in plan.before:
         turned = turned | worlds.full ^ matched[row]
     return turned
 

@@ -83,13 +83,14 @@ def _present(store, full):
 
 def impossible_worlds(worlds, table, gone):
     """The worlds in which the new row is one that was there, or clashes with one that is there; gone are the others."""
-    places = [place for place, column in enumerate(table.columns) if column in table.key]
+    places = list(range(len(table.columns)))
+    key_places = [place for place in places if table.columns[place] in table.key]
     barred = 0
     for row in gone:
-        barred = barred | worlds.grid.row_cells(row, range(len(row)))
+        barred = barred | worlds.grid.row_cells(row, places)
     for row, _ in worlds.present[table.name]:
         if row is not None:
-            barred = barred | worlds.grid.row_cells(row, places or range(len(row)))
+            barred = barred | worlds.grid.row_cells(row, key_places or places)
     return barred
 
 
