@@ -225,6 +225,12 @@ class Errors(unittest.TestCase):
                 found.turns(thing)
             self.assertIs(caught.exception.change, thing)
 
+    def test_changes_that_are_not_possible_turn_nothing(self):
+        found = turners(RICH, example_store())
+        for change in [("insert", "t", ("ann", 5)), ("delete", "t", ("zoe", 9)), ("insert", "s", ("ann", "x")),
+                       ("replace", "t", ("zoe", 9), ("cat", 9)), ("replace", "t", ("ann", 5), ("bob", 3))]:
+            self.assertIs(found.turns(change), False)
+
     def test_names_of_parameters(self):
         found = turners(store=example_store(), question=RICH)
         self.assertTrue(found.turns(change=("delete", "t", ("ann", 5))))

@@ -45,7 +45,8 @@ def names_tree(candidates, alike, others):
 
 def numbers_tree(ends, trees):
     """The tree at a number column, of which neighbours may be the same."""
-    kept_ends, kept = [], [trees[0]]
+    kept_ends = []
+    kept = [trees[0]]
     for end, tree in zip(ends, trees[1:]):
         if tree != kept[-1]:
             kept_ends.append(end)
@@ -99,8 +100,8 @@ def _merged_names(trees, results):
 
 def _names_to_try(trees):
     """The names at which the trees may differ from what they have for the others."""
-    # A name that some tree tells at the second column only, and another tree does not, is not the name of the first
-    # column for the one, and may be for the other: together they may have to tell it at the first column.
+    # A row with one name twice counts as told where the name is told at the second column, and as alike elsewhere. If
+    # the trees differ in this, the name may have to be told at the first column.
     below = [tree[3] for tree in trees if tree[3][0] == "names"]
     return sorted({name for tree in [*trees, *below] for name, _ in tree[1]})
 

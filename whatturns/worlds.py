@@ -42,8 +42,7 @@ class Worlds:
         return 0 if ready.operator == "!=" else self.full
 
     def hold(self, conditions, rows):
-        """The sets of worlds in which the conditions hold with these rows, without the full one; None if one is empty.
-        """
+        """For each condition the worlds in which it holds, if these are not all worlds; None if there are none."""
         found = []
         for ready in conditions:
             here = self.holds(ready, rows)
