@@ -3,6 +3,9 @@
 from whatturns.errors import InvalidQuestion
 from whatturns.questions import First, Groups, Select, Union
 
+_MOST_USES = 2
+_MOST_PARTS = 6
+
 
 def is_question(thing):
     """Whether it is an object of one of the four classes of questions."""
@@ -15,6 +18,16 @@ def check_question(question, tables):
     if not is_question(question):
         raise InvalidQuestion()
     question.check(*tables)
+
+
+def check_plain_select(question, tables):
+    """Raise InvalidQuestion for any value that is no select of these tables about which all stores can be asked."""
+    if not isinstance(question, Select):
+        raise InvalidQuestion()
+    question.check(*tables)
+    size = len(question.where) + len(question.keep)
+    if question.without or len(question.uses) > _MOST_USES or size > _MOST_PARTS:
+        raise InvalidQuestion()
 
 
 def copy_of(question):

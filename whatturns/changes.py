@@ -5,15 +5,24 @@ from whatturns.tables import table_named
 _LENGTHS = {"insert": 3, "delete": 3, "replace": 4}
 
 
-def is_change_of(thing, tables):
-    """Whether it is a change of one of the tables."""
+def changed_parts(thing, tables):
+    """(table, rows) of what looks like a change of one of the tables, whatever stands there for rows, or None."""
     if not isinstance(thing, tuple) or len(thing) < 3:
-        return False
+        return None
     kind, name, *rows = thing
     if not isinstance(kind, str) or _LENGTHS.get(kind) != len(thing):
-        return False
+        return None
     table = table_named(name, tables)
-    return table is not None and all([table.is_row(row) for row in rows])
+    return None if table is None else (table, rows)
+
+
+def is_change_of(thing, tables):
+    """Whether it is a change of one of the tables."""
+    parts = changed_parts(thing, tables)
+    if parts is None:
+        return False
+    table, rows = parts
+    return all([table.is_row(row) for row in rows])
 
 
 def is_possible_in(change, table, rows):

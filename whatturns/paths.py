@@ -43,7 +43,7 @@ def _untold_branches(table, place, tree, spare):
 def _names_beside(tree):
     """Two names that the tree does not tell."""
     told = _told_names(tree)
-    return [name for name in [_name_of(number) for number in range(len(told) + 2)] if name not in told]
+    return [name for name in [name_of(number) for number in range(len(told) + 2)] if name not in told]
 
 
 def _told_names(tree):
@@ -51,7 +51,7 @@ def _told_names(tree):
     return sorted({name for names in [own, *[_told_names(below) for below in subtrees(tree)]] for name in names})
 
 
-def _name_of(number):
+def name_of(number):
     """A name for each number."""
     name = _LETTERS[number % 26]
     while number >= 26:

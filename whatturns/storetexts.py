@@ -27,7 +27,7 @@ def read_lines(text):
         words = line.split(" ")
         if words[0] == "row" and found:
             table, rows = found[-1]
-            rows.append(_read_row(words[1:], table))
+            rows.append(read_row(words[1:], table))
         else:
             found.append((_read_table(words), []))
     return found
@@ -59,7 +59,7 @@ def _read_columns(word):
     return () if word == "-" else tuple(word.split(","))
 
 
-def _read_row(words, table):
+def read_row(words, table):
     """The row of a table that the words behind the word row tell."""
     split = len(table.names)
     if not all([is_number_word(word) for word in words[split:]]):
