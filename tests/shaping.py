@@ -40,7 +40,8 @@ def make_pinned(chance):
     table = Table("t", *chance.choice(((("a",), ()), ((), ("p",)), (("a",), ("p",)))))
     values = {"a": NAMES[:2], "p": (0, 1)}
     kind = chance.choice(("insert", "delete", "replace", "replace", "replace"))
-    templates = [tuple(chance.choice(values[column]) for column in table.columns) for _ in range(1 + (kind == "replace"))]
+    count = 2 if kind == "replace" else 1
+    templates = [tuple(chance.choice(values[column]) for column in table.columns) for _ in range(count)]
     where = tuple((f"{alias}.{column}", "=", chance.choice(values[column])) for alias in "uv"
                   for column in table.columns if chance.random() < 0.9)
     keep = (f"{chance.choice('uv')}.{chance.choice(table.columns)}",)

@@ -8,7 +8,8 @@ from tests.certs import is_certificate, places_in, put_at, spoilt
 from tests.helpers import FREE, RICH, S, T, any_values, nested, store_with
 from tests.making import make_tables
 from tests.naive import naive_answer
-from tests.shaping import changes_of, make_bounds, make_keyed_select, make_pinned, make_plain_select, make_shape, small_store
+from tests.shaping import (changes_of, make_bounds, make_keyed_select, make_pinned, make_plain_select, make_shape,
+                           small_store)
 from whatturns.cases import case_holds, certificate_holds, turning_case
 from whatturns.errors import InvalidQuestion, InvalidShape
 from whatturns.questions import First, Groups, Select, Union
@@ -65,7 +66,8 @@ class Drawn(unittest.TestCase):
                     there = [(change[1], change[2])] if change[0] != "insert" else []
                     store = small_store(chance, tables, 2, there)
                     tried += 1
-                    self.assertFalse(turned(select, store, change), (shape, bounds, select.text(), store.text(), change))
+                    self.assertFalse(turned(select, store, change),
+                                     (shape, bounds, select.text(), store.text(), change))
         self.assertGreater(tried, 4000)
         for word in ("case", "certificate", "clash", "way"):
             self.assertGreater(seen.count(word), 500, word)
@@ -82,7 +84,8 @@ class Drawn(unittest.TestCase):
                 for change in changes_of(shape, bounds, chance, 6):
                     there = [(change[1], change[2])] if change[0] != "insert" else []
                     store = small_store(chance, [table], 2, there)
-                    self.assertFalse(turned(select, store, change), (shape, bounds, select.text(), store.text(), change))
+                    self.assertFalse(turned(select, store, change),
+                                     (shape, bounds, select.text(), store.text(), change))
         for word in ("case", "certificate", "key"):
             self.assertGreater(seen.count(word), 50, word)
 
@@ -165,6 +168,18 @@ class Drawn(unittest.TestCase):
             held += expected
         self.assertLess(held, len(known) * len(known) // 2)
 
+    def test_names_that_must_be_others(self):
+        names = ("a", "b", "c", "d")
+        shapes = [("insert", "t", ("?x", "?n")), ("delete", "t", ("?x", "?n")),
+                  ("replace", "t", ("?x", "?n"), ("?y", "?n"))]
+        seen = []
+        for count in range(5):
+            select = Select(ONE, ("u.a",), tuple(("u.a", "!=", name) for name in names[:count]))
+            bounds = tuple(("?x", "!=", name) for name in names[count:])
+            for shape in shapes:
+                self.check(None, shape, bounds, select, [T], seen)
+        self.assertEqual(seen.count("case"), 15)
+
     def test_nothing_is_changed(self):
         shape, bounds = ("insert", "t", ("?x", "?n")), (("?n", "<=", 3),)
         select = Select(ONE, ("u.a",), (("u.p", ">=", 4),))
@@ -208,7 +223,8 @@ class ByHand(unittest.TestCase):
         right = [(one, two, three), (three, two, one), (one, one, one, two, three), (one, two, two, two, three),
                  (one, two, three, three, three), (one,) * 501 + (two,) * 701 + (three,) * 301,
                  (one, two, three, three, two, two, three)]
-        wrong = [(), (one,), (one, two), (two, three), (one, three), (one, three, two), (two, one, three), (two, three, one),
+        wrong = [(), (one,), (one, two), (two, three), (one, three), (one, three, two), (two, one, three),
+                 (two, three, one),
                  (one, one, two, three), (one, two, two, three), (one,) * 500 + (two, three), (one, two, three, three),
                  (one, two, three, three, two, one), (("ann", "=", "?x"), two, three), (one, two, ("bob", "=", "?y")),
                  (one, two, ("?y", "=", "cat")), (("ann", "=", "bob"),), (one, two, ("?y", "!=", "bob")),
@@ -220,17 +236,47 @@ class ByHand(unittest.TestCase):
         self.assertFalse(self.holds(shape, bounds, select, (("comes", (0,), ("clash", [one, two, three])),), S))
         self.check(shape, bounds, select, (("comes", (0,), clash(one, two, three)),), S)
 
+    def test_facts_that_are_no_chain(self):
+        # What is not between neighbouring terms is no clash, even where the outer terms would be one.
+        pair = Table("m", ("x", "y"), ("p", "q"))
+        shape, uses = ("insert", "m", ("ann", "?y", 4, "?q")), (("u", "m"), ("v", "m"))
+        bounds = (("?y", "=", "bob"), ("?q", "<=", 9), ("?q", "<=", 3), ("?q", "=", 7))
+        where = (("u.x", "=", "v.x"), ("u.p", "!=", "v.p"), ("v.p", "<=", 3), ("u.p", "=", "v.p"))
+        select = Select(uses, ("u.x",), where)
+        apart = clash(("?q", "=", 7), ("?q", "<=", 3))
+        thing = [("comes", (0,), apart), ("comes", (0, 1), apart), ("comes", (1,), apart)]
+        self.assertTrue(self.holds(shape, bounds, select, tuple(thing), pair))
+        for facts in [(("?y", "=", "bob"), ("ann", "=", "v.x")), (("ann", "=", "v.x"), ("?y", "=", "bob")),
+                      (("?q", "<=", 9), ("?q", "<=", 3)), ((4, "!=", "v.p"), ("v.p", "<=", 3)),
+                      (("?q", "=", 7), ("v.p", "<=", 3)), (("?q", "<=", 9), (4, "=", "v.p"), ("v.p", "<=", 3))]:
+            thing[0] = ("comes", (0,), ("clash", facts))
+            self.assertFalse(self.holds(shape, bounds, select, tuple(thing), pair), facts)
+        for facts in [((4, "=", "v.p"), ("v.p", "<=", 3)), ((4, "=", "v.p"), (4, "!=", "v.p"))]:
+            thing[0] = ("comes", (0,), ("clash", facts))
+            self.assertTrue(self.holds(shape, bounds, select, tuple(thing), pair), facts)
+
+    def test_what_is_not_equal_turned_round_behind_a_longer_chain(self):
+        shape, bounds = ("insert", "s", ("?x", "?y")), (("?x", "=", "?y"), ("?y", "=", "ann"), ("?x", "!=", "ann"))
+        one, two, three = bounds
+        for facts, expected in [((one, two, three), True), ((two, one, three), True), ((two, three), False),
+                                ((three, one, two), False), ((one, three, two), False)]:
+            thing = (("comes", (0,), ("clash", facts)),)
+            self.assertIs(self.holds(shape, bounds, Select((("u", "s"),), ("u.b",)), thing, S), expected)
+
     def test_one_name_twice_is_no_clash(self):
         shape, bounds = ("insert", "s", ("?x", "?y")), (("?x", "=", "ann"), ("?y", "=", "ann"), ("?x", "=", "?y"))
         select = Select((("u", "s"),), ("u.b",), (("u.c", "=", "ann"),))
-        for facts in [(("?x", "=", "ann"), ("?x", "=", "?y"), ("?y", "=", "ann")), (("?y", "=", "ann"), ("?y", "=", "ann"))]:
+        for facts in [(("?x", "=", "ann"), ("?x", "=", "?y"), ("?y", "=", "ann")),
+                      (("?y", "=", "ann"), ("?y", "=", "ann"))]:
             self.assertFalse(self.holds(shape, bounds, select, (("comes", (0,), ("clash", facts)),), S))
 
     def test_clash_of_what_is_not_equal(self):
         shape, bounds = ("insert", "s", ("?x", "?y")), (("?x", "=", "?y"), ("?x", "!=", "?x"), ("?y", "=", "ann"))
         select = Select((("u", "s"),), ("u.b",), (("u.b", "!=", "u.c"), ("u.c", "!=", "u.b")))
-        equal, apart, turned_round, alone = (("?x", "=", "?y"), ("?x", "!=", "?y"), ("?y", "!=", "?x"), ("?x", "!=", "?x"))
-        for facts in [(equal, apart), (equal, turned_round), (alone,), (equal, equal, alone), (equal,) * 401 + (apart,)]:
+        equal, apart, turned_round, alone = (("?x", "=", "?y"), ("?x", "!=", "?y"), ("?y", "!=", "?x"),
+                                             ("?x", "!=", "?x"))
+        for facts in [(equal, apart), (equal, turned_round), (alone,), (equal, equal, alone),
+                      (equal,) * 401 + (apart,)]:
             self.assertTrue(self.holds(shape, bounds, select, (("comes", (0,), ("clash", facts)),), S), facts)
         for facts in [(apart, equal), (apart,), (equal, alone), (alone, alone), (equal, equal, apart), (alone, equal),
                       (("?y", "=", "?x"), apart), (("?y", "=", "ann"), apart), (equal, ("?y", "=", "ann"), apart),
@@ -243,11 +289,14 @@ class ByHand(unittest.TestCase):
         bounds = (("?n", "<=", 3), ("?n", "=", 7), ("?n", ">=", 5), ("?n", "=", 2))
         select = Select(ONE, ("u.a",), (("u.p", ">=", 4),))
         up, seven, five, two, four = ("?n", "<=", 3), ("?n", "=", 7), (5, "<=", "?n"), ("?n", "=", 2), (4, "<=", "?n")
-        for facts in [(four, up), (five, up), (seven, up), (seven, two), (five, two), (four, two), (seven, seven, seven, up),
+        for facts in [(four, up), (five, up), (seven, up), (seven, two), (five, two), (four, two),
+                      (seven, seven, seven, up),
                       (five, two, two, two), (seven,) * 301 + (two,) * 101]:
             self.assertTrue(self.holds(shape, bounds, select, (("comes", (0,), ("clash", facts)),), T), facts)
-        for facts in [(up, four), (up,), (two, seven), (two, up), (five, seven), (four, five), (two, five), (seven, seven),
-                      (four, four, up), (four, up, up), (("?n", ">=", 4), up), (four, ("?n", "<=", 4)), (seven, two, two),
+        for facts in [(up, four), (up,), (two, seven), (two, up), (five, seven), (four, five), (two, five),
+                      (seven, seven),
+                      (four, four, up), (four, up, up), (("?n", ">=", 4), up), (four, ("?n", "<=", 4)),
+                      (seven, two, two),
                       ((True, "<=", "?n"), up), ((4, "<=", "?n", 4), up), (("4", "<=", "?n"), up)]:
             self.assertFalse(self.holds(shape, bounds, select, (("comes", (0,), ("clash", facts)),), T), facts)
         self.check(shape, bounds, select, (("comes", (0,), clash(four, up)),), T)
@@ -289,7 +338,8 @@ class ByHand(unittest.TestCase):
         ways = (clash((4, "<=", "v.p"), ("v.p", "<", 4)), clash(("v.a", "!=", "v.a")))
         thing = (("comes", (0,), ("way", ("v", "v"), ways)), ("comes", (0, 1), low), ("comes", (1,), low))
         self.check(shape, bounds, select, thing, T)
-        for names in [("u", "v"), ("v",), ("v", "v", "v"), (".new", "v"), ("v", ".new"), (".old", "v"), ["v", "v"], "vv",
+        for names in [("u", "v"), ("v",), ("v", "v", "v"), (".new", "v"), ("v", ".new"), (".old", "v"), ["v", "v"],
+                      "vv",
                       ("v", None), ("v", ("v",)), (), ("w", "v"), ("v.a", "v")]:
             self.assertFalse(self.holds(shape, bounds, select, (("comes", (0,), ("way", names, ways)), *thing[1:]), T))
         for places in [(1,), (0, 1), (), (0, 0), (2,)]:
@@ -325,14 +375,35 @@ class ByHand(unittest.TestCase):
         self.assertTrue(self.holds(shape, (), select, (("goes", (0,), turned_round), *thing[1:]), S))
         for one, other in [("v", "v"), (".old", ".old"), (".new", "v"), (".old", "u"), (".old", ".new"), ("v", ".old"),
                            (".old", None), (".old", ["v"]), ("v", "u")]:
-            self.assertFalse(self.holds(shape, (), select, (("goes", (0,), ("key", one, other, *first[3:])), *thing[1:]), S))
-        for same, trees in [(first[3], ()), (first[3], first[4] * 2), (first[4][0], first[4]), (first[3], list(first[4])),
+            self.assertFalse(self.holds(shape, (), select,
+                                        (("goes", (0,), ("key", one, other, *first[3:])), *thing[1:]), S))
+        for same, trees in [(first[3], ()), (first[3], first[4] * 2), (first[4][0], first[4]),
+                            (first[3], list(first[4])),
                             (first[3], first[4][0]), (first[4], first[3])]:
-            self.assertFalse(self.holds(shape, (), select, (("goes", (0,), ("key", ".old", "v", same, trees)), *thing[1:]), S))
+            self.assertFalse(self.holds(shape, (), select,
+                                        (("goes", (0,), ("key", ".old", "v", same, trees)), *thing[1:]), S))
         # Without a key, or with another one, the same is no certificate.
         self.assertFalse(self.holds(shape, (), select, thing, Table("s", ("b", "c"))))
         self.assertFalse(self.holds(shape, (), select, thing, Table("s", ("b", "c"), (), ("b", "c"))))
         self.assertFalse(self.holds(shape, (), select, thing, Table("s", ("b", "c"), (), ("c",))))
+
+    def test_a_key_of_one_row_or_of_two_tables(self):
+        # All branches are closed; still these are no two rows of one table.
+        other = Table("o", ("b", "c"), (), ("b",))
+        shape, bounds = ("delete", "s", ("ann", "?y")), (("?y", "!=", "?y"),)
+        select = Select((("u", "s"), ("v", "o")), ("u.b",))
+        right = clash(("?y", "!=", "?y"))
+        self.assertTrue(self.holds(shape, bounds, select, (("goes", (0,), right),), S, other))
+        for tree in [("key", ".old", "v", right, ()), ("key", "v", ".old", right, ()),
+                     ("key", "v", "v", right, (right,)), ("key", ".old", ".old", right, (right,)),
+                     ("key", ".old", "v", right, (right,)), ("apart", ".old", "v", (right, right)),
+                     ("apart", ".old", "v", ()), ("apart", ".old", ".old", (right, right))]:
+            self.assertFalse(self.holds(shape, bounds, select, (("goes", (0,), tree),), S, other), tree)
+        same_table = Select((("u", "s"), ("v", "s")), ("u.b",))
+        for first, second in [(".old", "v"), ("v", ".old"), ("v", "v"), (".old", ".old")]:
+            tree = ("key", first, second, right, (right,))
+            thing = (("goes", (0,), tree), ("goes", (0, 1), right), ("goes", (1,), right))
+            self.assertIs(self.holds(shape, bounds, same_table, thing, S), first != second)
 
     def test_a_key_before_and_after_but_not_between(self):
         # The old and the new row of a replace are never there together.
@@ -350,17 +421,20 @@ class ByHand(unittest.TestCase):
         def apart(row, alias, number):
             name = ("?x", "=", f"{alias}.a") if alias == "v" else (f"{alias}.a", "=", "?x")
             count = (number, "=", f"{alias}.p") if alias == "v" else (f"{alias}.p", "=", number)
-            return ("apart", row, alias, (clash(name, ("?x", "!=", f"{alias}.a")), clash(count, (number, "!=", f"{alias}.p"))))
+            return ("apart", row, alias,
+                    (clash(name, ("?x", "!=", f"{alias}.a")), clash(count, (number, "!=", f"{alias}.p"))))
 
         def way(row, number):
-            return ("way", (row, row), (clash(("?x", "!=", "?x")), clash((number, "!=", number)), clash(("?x", "!=", "?x"))))
+            return ("way", (row, row),
+                    (clash(("?x", "!=", "?x")), clash((number, "!=", number)), clash(("?x", "!=", "?x"))))
 
         thing = (("comes", (0,), apart(".new", "v", "?m")), ("comes", (0, 1), way(".old", "?n")),
                  ("comes", (1,), apart(".new", "u", "?m")), ("goes", (0,), apart(".old", "v", "?n")),
                  ("goes", (0, 1), way(".new", "?m")), ("goes", (1,), apart(".old", "u", "?n")))
         self.check(shape, (), select, thing, T)
         word, row, alias, trees = thing[0][2]
-        for tree in [(word, alias, row, trees), (word, ".old", alias, trees), (word, row, "u", trees), (word, row, row, trees),
+        for tree in [(word, alias, row, trees), (word, ".old", alias, trees), (word, row, "u", trees),
+                     (word, row, row, trees),
                      (word, row, ".old", trees), (word, row, alias, trees[::-1]), (word, row, alias, trees[:1]),
                      (word, row, alias, (*trees, trees[0])), (word, row, alias, list(trees)), (word, row, None, trees),
                      (word, [row], alias, trees), (word, row, alias), (word, row, alias, *trees)]:
@@ -389,6 +463,16 @@ class ByHand(unittest.TestCase):
                       ("split", list(tree[1]), *tree[2:]), inner]:
             self.assertFalse(self.holds(shape, bounds, select, (("comes", (0,), wrong),), T))
 
+    def test_facts_that_are_not_there_are_not_split(self):
+        shape, bounds = ("insert", "n", ("?n",)), (("?n", ">=", 3), ("?n", "<=", 3))
+        select = Select((("u", "n"),), ("u.p",))
+        less, more = clash((3, "<=", "?n"), ("?n", "<", 3)), clash((3, "<", "?n"), ("?n", "<=", 3))
+        thing = (("comes", (0,), ("split", ("?n", "!=", 3), less, more)),)
+        self.assertFalse(self.holds(shape, bounds, select, thing, NUMBERS))
+        self.assertTrue(self.holds(shape, (*bounds, ("?n", "!=", 3)), select, thing, NUMBERS))
+        self.assertFalse(self.holds(shape, (*bounds, ("?n", "=", 3)), select, thing, NUMBERS))
+        self.assertEqual(turning_case(shape, bounds, select, NUMBERS)[0], "case")
+
     def test_names_are_not_split(self):
         shape, bounds = ("insert", "t", ("?x", "?n")), (("?x", "!=", "ann"), ("?x", "=", "ann"))
         right = clash(("?x", "=", "ann"), ("?x", "!=", "ann"))
@@ -401,7 +485,8 @@ class ByHand(unittest.TestCase):
         bounds = (("?n", "!=", 1), ("?n", ">=", 1), ("?n", "<=", 1))
         select = Select((("u", "n"),), ("u.p",))
         less, more = clash((1, "<=", "?n"), ("?n", "<", 1)), clash((1, "<", "?n"), ("?n", "<=", 1))
-        for trees, expected in [((less, more), True), ((more, less), False), ((less, less), False), ((more, more), False)]:
+        for trees, expected in [((less, more), True), ((more, less), False), ((less, less), False),
+                                ((more, more), False)]:
             thing = (("comes", (0,), ("split", ("?n", "!=", 1), *trees)),)
             self.assertIs(self.holds(shape, bounds, select, thing, NUMBERS), expected)
 
@@ -482,14 +567,16 @@ class CaseHolds(unittest.TestCase):
         pair = Table("m", ("x", "y"), ("p", "q"))
         select = Select((("u", "m"),), ("u.x",))
         for row, expected in [(("a", "a", 1, 1), True), (("a", "b", 1, 1), False), (("a", "a", 1, 2), False)]:
-            found = case_holds(("insert", "m", ("?x", "?x", "?n", "?n")), (), select, (Store(pair), ("insert", "m", row)), pair)
+            found = case_holds(("insert", "m", ("?x", "?x", "?n", "?n")), (), select,
+                               (Store(pair), ("insert", "m", row)), pair)
             self.assertIs(found, expected)
 
     def test_bounds(self):
         shape, select = ("insert", "t", ("?x", "?n")), Select(ONE, ("u.a",))
         for bounds, expected in [((("?n", "=", 4),), True), ((("?n", "!=", 4),), False), ((("?n", "<=", 4),), True),
                                  ((("?n", "<=", 3),), False), ((("?n", ">=", 4),), True), ((("?n", ">=", 5),), False),
-                                 ((("?x", "=", "ann"),), True), ((("?x", "=", "bob"),), False), ((("?x", "!=", "?x"),), False),
+                                 ((("?x", "=", "ann"),), True), ((("?x", "=", "bob"),), False),
+                                 ((("?x", "!=", "?x"),), False),
                                  ((("?x", "=", "?x"), ("?n", "<=", "?n"), ("?n", ">=", 9)), False)]:
             self.assertIs(case_holds(shape, bounds, select, (Store(T), ("insert", "t", ("ann", 4))), T), expected)
 
@@ -533,6 +620,7 @@ class Errors(unittest.TestCase):
                 if thing != RICH:
                     self.assertRaises(InvalidQuestion, function, self.SHAPE, (), thing, T, S)
             self.assertRaises(InvalidQuestion, function, ("insert", "s", ("?x", "?y")), (), RICH, S)
-            for select in [Select(ONE, ("u.a",), (("u.p", ">=", 4),) * 5), Select(ONE, ("u.a",) * 4, (("u.p", ">=", 4),) * 2),
+            for select in [Select(ONE, ("u.a",), (("u.p", ">=", 4),) * 5),
+                           Select(ONE, ("u.a",) * 4, (("u.p", ">=", 4),) * 2),
                            Select(PAIR, ("u.a",))]:
                 function(self.SHAPE, (), select, T, S)

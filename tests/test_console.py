@@ -224,29 +224,35 @@ class Commands(unittest.TestCase):
 
 class Errors(unittest.TestCase):
     WRONG = [
-        "", " ", "  ", "help", "insert", "insert t", "insert t ann", "insert t ann 5 6", "insert z ann 5", "insert t 5 ann",
-        "insert t ann five", "insert t ann 05", "insert t ann +5", "insert t ann -0", "insert t ann 5.0", "insert t ann --5",
-        "insert t ann -", "insert t Ann 5", "insert t abcdefghi 5", "insert  t ann 5", "insert t  ann 5", "insert t ann  5",
-        " insert t ann 5", "insert t ann 5 ", "insert t ann 5\n", "\ninsert t ann 5", "insert t\nann 5", "Insert t ann 5",
-        "insert t ann 1_0", "insert t ann, 5", "insert t (ann 5)", "insert T ann 5", "insert t ann 5 by ann 6",
-        "delete", "delete t", "delete t ann", "delete t ann 5 by bob 3", "delete u ann 5", "delete s ann 5", "delete t ann x",
-        "replace t ann 5", "replace t ann 5 by", "replace t ann 5 ann 6", "replace t ann 5 by ann", "replace t by ann 5 ann 6",
-        "replace t ann 5 by ann 6 7", "replace t ann 5 by by ann 6", "replace t ann 5 to ann 6", "replace t ann by 5 ann 6",
-        "replace t ann 5 by s ann cat", "replace", "replace t", "by", "ask", "ask ", "stand", "must", "turns",
-        "ask from", "ask from t as u", "ask from t as u keep u", "ask  from t as u keep u.a", "ask from t as u  keep u.a",
-        "ask from t as u keep u.a ", " ask from t as u keep u.a", "ask From t as u keep u.a", "ask from t keep t.a",
-        "ask from t as u where u.p = 05 keep u.a", "ask from t as u keep u.a first 0 by u.p", "ask from t as u keep u.a; rows t",
-        "ask from t as u keep u.a / rows t", "asks from t as u keep u.a", "stand from t as u where keep u.a",
-        "must from t as u keep u.a or", "rows", "rows ", "rows u", "rows t s", "rows t ", "rows  t", "Rows t", "rows T", "rows t,",
-        "store ", " store", "store t", "stores", "store store", "STORE", "turns / from t as u keep u.a",
-        "turns insert t ann 5", "turns insert t ann 5 /", "turns insert t ann 5 from t as u keep u.a",
-        "turns insert t ann 5/ from t as u keep u.a", "turns insert t ann 5 /from t as u keep u.a",
-        "turns insert t ann 5 / / from t as u keep u.a", "turns insert t ann / from t as u keep u.a",
-        "turns insert z ann 5 / from t as u keep u.a", "turns rows t / from t as u keep u.a",
-        "turns insert t ann 5 / from t as u", "turns from t as u keep u.a / insert t ann 5",
-        "turns insert t ann 5 / ask from t as u keep u.a", "turns ask from t as u keep u.a", "turns  insert t a 5 / from t as u keep u.a",
-        "done", "done 0", "nothing", "barred 0", "withdraw 0", "table t names a numbers p key -", "insert\tt ann 5", "/", "insert /",
-        "insert t ann 5 / from t as u keep u.a", "stand 0", "delete t ann 5;", "insert t ?x 5", "insert t u.a 5"]
+        "", " ", "  ", "help", "insert", "insert t", "insert t ann", "insert t ann 5 6", "insert z ann 5",
+        "insert t 5 ann", "insert t ann five", "insert t ann 05", "insert t ann +5", "insert t ann -0",
+        "insert t ann 5.0", "insert t ann --5", "insert t ann -", "insert t Ann 5", "insert t abcdefghi 5",
+        "insert  t ann 5", "insert t  ann 5", "insert t ann  5", " insert t ann 5", "insert t ann 5 ",
+        "insert t ann 5\n", "\ninsert t ann 5", "insert t\nann 5", "Insert t ann 5", "insert t ann 1_0",
+        "insert t ann, 5", "insert t (ann 5)", "insert T ann 5", "insert t ann 5 by ann 6", "delete", "delete t",
+        "delete t ann", "delete t ann 5 by bob 3", "delete u ann 5", "delete s ann 5", "delete t ann x",
+        "replace t ann 5", "replace t ann 5 by", "replace t ann 5 ann 6", "replace t ann 5 by ann",
+        "replace t by ann 5 ann 6", "replace t ann 5 by ann 6 7", "replace t ann 5 by by ann 6",
+        "replace t ann 5 to ann 6", "replace t ann by 5 ann 6", "replace t ann 5 by s ann cat", "replace", "replace t",
+        "by", "ask", "ask ", "stand", "must", "turns", "ask from", "ask from t as u", "ask from t as u keep u",
+        "ask  from t as u keep u.a", "ask from t as u  keep u.a", "ask from t as u keep u.a ",
+        " ask from t as u keep u.a", "ask From t as u keep u.a", "ask from t keep t.a",
+        "ask from t as u where u.p = 05 keep u.a", "ask from t as u keep u.a first 0 by u.p",
+        "ask from t as u keep u.a; rows t", "ask from t as u keep u.a / rows t", "asks from t as u keep u.a",
+        "stand from t as u where keep u.a", "must from t as u keep u.a or", "rows", "rows ", "rows u", "rows t s",
+        "rows t ", "rows  t", "Rows t", "rows T", "rows t,", "store ", " store", "store t", "stores", "store store",
+        "STORE", "turns / from t as u keep u.a", "turns insert t ann 5", "turns insert t ann 5 /",
+        "turns insert t ann 5 from t as u keep u.a", "turns insert t ann 5/ from t as u keep u.a",
+        "turns insert t ann 5 /from t as u keep u.a", "turns insert t ann 5 / / from t as u keep u.a",
+        "turns insert t ann / from t as u keep u.a", "turns insert z ann 5 / from t as u keep u.a",
+        "turns rows t / from t as u keep u.a", "turns insert t ann 5 / from t as u",
+        "turns from t as u keep u.a / insert t ann 5", "turns insert t ann 5 / ask from t as u keep u.a",
+        "turns ask from t as u keep u.a", "turns  insert t a 5 / from t as u keep u.a", "done", "done 0", "nothing",
+        "barred 0", "withdraw 0", "table t names a numbers p key -", "insert\tt ann 5", "/", "insert /",
+        "insert t ann 5 / from t as u keep u.a", "stand 0", "delete t ann 5;",
+        "turn insert t ann 5 / from t as u keep u.a", "rows insert t ann 5 / from t as u keep u.a",
+        "turns change t ann 5 / from t as u keep u.a", "store insert t ann 5 / from t as u keep u.a",
+        "turns turns t ann 5 / from t as u keep u.a", "insert t ?x 5", "insert t u.a 5"]
 
     def test_wrong_commands(self):
         found = console()
@@ -273,7 +279,8 @@ class Errors(unittest.TestCase):
         found.say(f"stand {RICH_TEXT}")
         found.say("must from t as u where u.p >= 10 keep u.a")
         for _ in range(2):
-            for text in ("stand from t as u keep u.z", "must from t as u keep u.a", "insert t ann", "must from z as u keep u.a",
+            for text in ("stand from t as u keep u.z", "must from t as u keep u.a", "insert t ann",
+                         "must from z as u keep u.a",
                          "turns insert t cat 5 / from t as u keep u.z"):
                 self.assertRaises(ValueError, found.say, text)
         self.assertEqual(found.say("must from t as u where u.p <= 0 keep u.a"), "1")
@@ -284,7 +291,8 @@ class Errors(unittest.TestCase):
     def test_texts(self):
         for thing in [*any_values(), "", "table t", "row ann 5", example_store().text() + "\n"]:
             self.assertRaises(InvalidText, Console, thing)
-        self.assertEqual(Console(text="table t names a numbers p key -\nrow bob 3\nrow ann 5").say("rows t"), "ann 5; bob 3")
+        self.assertEqual(Console(text="table t names a numbers p key -\nrow bob 3\nrow ann 5").say("rows t"),
+                         "ann 5; bob 3")
 
     def test_questions_with_the_meaning_of_the_text(self):
         found = console()

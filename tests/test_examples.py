@@ -125,7 +125,8 @@ class Examples(unittest.TestCase):
         more = Select((("u", "t"),), ("u.a",), (("u.p", ">=", 5),))
         tree = ("way", ("u",), (
             ("clash", ((5, "<=", "u.p"), ("u.p", "<", 4))), ("clash", (("u.a", "!=", "u.a"),))))
-        found = [within_case(RICH, more, T, S)[0], within_case(more, RICH, T, S)[0], within_holds(more, RICH, tree, T, S)]
+        found = [within_case(RICH, more, T, S)[0], within_case(more, RICH, T, S)[0],
+                 within_holds(more, RICH, tree, T, S)]
         self.assertEqual(found, ["case", "certificate", True])
 
     def test_console(self):

@@ -216,7 +216,8 @@ class Templates(unittest.TestCase):
                 (("?b", "?a", "?d", "?c"), ("b", "a"), ("d", "c")), (("?b", "?b", "?c", "?c"), ("b",), ("c",)),
                 (("x", "?long", 1, "?letters"), ("long",), ("letters",)), (("?x", "x", 1, 2), ("x",), ()),
                 (("x", "y", 0, "?abcdefgh"), (), ("abcdefgh",))]:
-            self.assertEqual(guard.barred_template("m", template), Form.constant(Table("params", names, numbers), False))
+            self.assertEqual(guard.barred_template("m", template),
+                             Form.constant(Table("params", names, numbers), False))
 
     def test_one_parameter_at_two_columns(self):
         same = Select((("u", "m"),), ("u.x",), (("u.x", "=", "u.y"), ("u.p", "<=", 3)))
@@ -237,7 +238,8 @@ class Templates(unittest.TestCase):
         wrong = [("x", "y", 1, 2), ("?a", "y", "?a", 2), ("?a", "y", 1), ("?a", "y", 1, 2, 3), ["?a", "y", 1, 2],
                  ("?a", "Y", 1, 2), ("?a", 1, 1, 2), ("?a", "y", "z", 2), ("?a", "y", True, 2), ("?a", "y", None, 2),
                  ("?", "y", 1, 2), ("??", "y", 1, 2), ("?A", "y", 1, 2), ("?abcdefghi", "y", 1, 2), ("? a", "y", 1, 2),
-                 ("?a ", "y", 1, 2), ("a?", "y", 1, 2), ("?a", "?b", "?c", "?b"), ("?a", ("y",), 1, 2), ("?a1", "y", 1, 2),
+                 ("?a ", "y", 1, 2), ("a?", "y", 1, 2), ("?a", "?b", "?c", "?b"), ("?a", ("y",), 1, 2),
+                 ("?a1", "y", 1, 2),
                  ("x", "y", "?n", "?x?"), ("x", "y", "?n", ""), ("?a", "y", 1, [2]), ("?a\n", "y", 1, 2)]
         for thing in [*wrong, *any_values(), *[("?a", value, 1, 2) for value in any_values()
                                                if value not in ("u", "t", "count")]]:

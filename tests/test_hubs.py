@@ -258,7 +258,8 @@ class Replicas(unittest.TestCase):
 
     def test_lost_doubled_and_late(self):
         first, second, third = self.letters
-        found = [self.replica.take(letter=letter) for letter in (third, first, third, first, second, first, second, third)]
+        found = [self.replica.take(letter=letter) for letter in (third, first, third, first, second, first, second,
+                                                                 third)]
         self.assertEqual(found, [False, True, False, False, True, False, False, True])
         self.assertEqual((self.replica.version, self.replica.answer), (2, (("ann",), ("cat",), ("dog",))))
 

@@ -45,7 +45,8 @@ def naive_tree(sessions, store):
         else:
             after = store.copy()
             after.do(*changes)
-            branches.append((number, naive_tree({other: sessions[other] for other in sessions if other != number}, after)))
+            branches.append((number,
+                             naive_tree({other: sessions[other] for other in sessions if other != number}, after)))
     return tuple(branches)
 
 

@@ -15,7 +15,8 @@ from whatturns.tables import Table
 PAIR = Table("m", ("x", "y"), ("p", "q"))
 TABLES = (T, S, PAIR)
 RIGHT = [
-    ("insert", "t", ("?x", "?n")), ("insert", "t", ("ann", 5)), ("delete", "t", ("?x", -3)), ("delete", "s", ("?x", "?x")),
+    ("insert", "t", ("?x", "?n")), ("insert", "t", ("ann", 5)), ("delete", "t", ("?x", -3)),
+    ("delete", "s", ("?x", "?x")),
     ("replace", "t", ("?x", "?n"), ("?x", "?m")), ("replace", "s", ("?a", "b"), ("a", "?abcdefgh")),
     ("insert", "m", ("?a", "?b", "?c", "?d")), ("replace", "m", ("?a", "?a", "?c", "?c"), ("x", "?a", "?c", 10 ** 12)),
     ("replace", "m", ("?a", "?b", "?c", "?d"), ("?e", "?f", "?g", "?h")), ("insert", "t", ("?insert", "?t"))]
@@ -81,7 +82,8 @@ class Shapes(unittest.TestCase):
     def test_wrong_ones(self):
         wrong = [
             ("insert", "t"), ("insert", "t", ("?x", 1), ("?y", 2)), ("delete", "t", ("?x", 1), ("?y", 2)),
-            ("replace", "t", ("?x", 1)), ("replace", "t", ("?x", 1), ("?x", 1), ("?x", 1)), ["insert", "t", ("?x", "?n")],
+            ("replace", "t", ("?x", 1)), ("replace", "t", ("?x", 1), ("?x", 1), ("?x", 1)),
+            ["insert", "t", ("?x", "?n")],
             ("insert", "t", ["?x", "?n"]), ("change", "t", ("?x", "?n")), ("t", "insert", ("?x", "?n")),
             (True, "t", ("?x", "?n")), ("insert", "z", ("?x", "?n")), ("insert", True, ("?x", "?n")),
             ("insert", "t", ("?n", "?n")), ("insert", "t", ("?x", "?x")), ("insert", "t", (5, "ann")),
@@ -126,7 +128,8 @@ class Shapes(unittest.TestCase):
 
     def test_deep_values(self):
         for kind in ("tuple", "list", "dict"):
-            for thing in (nested(kind, 99), ("insert", "t", nested(kind, 97)), ("insert", "t", ("?x", nested(kind, 96))),
+            for thing in (nested(kind, 99), ("insert", "t", nested(kind, 97)),
+                          ("insert", "t", ("?x", nested(kind, 96))),
                           (nested(kind, 98), "t", ("?x", 1)), ("insert", nested(kind, 98), ("?x", 1))):
                 self.assertIs(is_shape(thing, *TABLES), False)
 
@@ -147,7 +150,8 @@ class Bounds(unittest.TestCase):
             (("?x", ">=", "?y"),), (("?x", "=", 1),), (("?x", "=", "?n"),), (("?n", "=", "?x"),), (("?n", "=", "ann"),),
             (("?n", "<", 1),), (("?n", "=", True),), (("?n", "=", None),), (("n", "=", 1),), (("ann", "=", "?x"),),
             ((1, "<=", "?n"),), (("?n", None, 1),), (("?", "=", 1),), (("?x", "=", "?"),), (("?x", "=", ""),),
-            (("?x", "=", "Ann"),), (("?n", "==", 1),), (("?n", "=", "1"),), ((("?n", "=", 1),),), (("t.a", "=", "ann"),),
+            (("?x", "=", "Ann"),), (("?n", "==", 1),), (("?n", "=", "1"),), ((("?n", "=", 1),),),
+            (("t.a", "=", "ann"),),
             (("?n", "<=", "?m"), None), (("?n", 1, "<="),), (1, "<=", "?n")]
         for thing in [*wrong, *[value for value in any_values() if not isinstance(value, tuple) or value]]:
             self.assertIs(are_bounds(thing, self.SHAPE, *TABLES), False, thing)
@@ -185,7 +189,8 @@ class Bounds(unittest.TestCase):
         self.assertGreater(wrong, 1500)
 
     def test_shapes_are_judged_first(self):
-        for shape in [*any_values(), ("insert", "t", ("?x",)), ["insert", "t", ("?x", "?n")], ("insert", "t", ("?n", "?n"))]:
+        for shape in [*any_values(), ("insert", "t", ("?x",)), ["insert", "t", ("?x", "?n")],
+                      ("insert", "t", ("?n", "?n"))]:
             for thing in ((), None, (("?n", "=", 1),), [1]):
                 self.assertRaises(InvalidShape, are_bounds, thing, shape, *TABLES)
 

@@ -142,7 +142,8 @@ class ByHand(unittest.TestCase):
         uses = (("u", "s"), ("v", "s"))
         first = Select(uses, ("u.c",), (("u.b", "=", "v.b"),))
         second = Select((("x", "s"), ("y", "s")), ("y.c",), (("x.c", "=", "y.c"), ("x.c", "=", "x.c")))
-        tree = ("way", ("u", "u"), (clash(("u.c", "!=", "u.c")), clash(("u.c", "!=", "u.c")), clash(("u.c", "!=", "u.c"))))
+        tree = ("way", ("u", "u"), (clash(("u.c", "!=", "u.c")), clash(("u.c", "!=", "u.c")),
+                                    clash(("u.c", "!=", "u.c"))))
         self.check(first, second, tree, S)
         apart = Select(uses, ("u.b",), (("u.b", "=", "v.b"), ("u.c", "!=", "v.c")))
         tree = ("key", "u", "v", clash(("u.c", "=", "v.c"), ("u.c", "!=", "v.c")), (
@@ -167,7 +168,8 @@ class ByHand(unittest.TestCase):
     def test_splits(self):
         first = Select(ONE, ("u.a",), (("u.p", ">=", 3), ("u.p", "<=", 4), ("u.p", "!=", 3), ("u.p", "!=", 4)))
         tree = ("split", ("u.p", "!=", 3), clash((3, "<=", "u.p"), ("u.p", "<", 3)), (
-            "split", ("u.p", "!=", 4), clash((3, "<", "u.p"), ("u.p", "<", 4)), clash((4, "<", "u.p"), ("u.p", "<=", 4))))
+            "split", ("u.p", "!=", 4), clash((3, "<", "u.p"), ("u.p", "<", 4)),
+            clash((4, "<", "u.p"), ("u.p", "<=", 4))))
         self.check(first, Select(ONE, ("u.a",), (("u.p", "=", 99),)), tree, T)
         self.assertFalse(self.holds(first, RICH, ("split", ("u.p", "!=", 5), *tree[2:]), T))
         self.assertFalse(self.holds(first, RICH, ("split", ("u.a", "!=", "u.a"), *tree[2:]), T))
@@ -212,7 +214,8 @@ class Outside(unittest.TestCase):
 
     def test_any_values(self):
         store = store_with(T, S, t=[("ann", 4)])
-        for thing in [value for value in any_values() if not isinstance(value, Store)] + [(store,), [store], (store, None)]:
+        for thing in [value for value in any_values() if not isinstance(value, Store)] + [(store,), [store],
+                                                                                          (store, None)]:
             self.assertIs(outside_holds(RICH, MORE, thing, T, S), False)
         self.assertEqual(store, store_with(T, S, t=[("ann", 4)]))
 

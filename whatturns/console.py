@@ -16,8 +16,7 @@ class Console:
 
     def say(self, command):
         """Do what the command says, and return what there is to say of it."""
-        tables = self._store.tables
-        word, *parts = read_command(command, tables)
+        word, *parts = read_command(command, self._store.tables)
         if word == "store":
             return self._store.text().replace("\n", " / ")
         if word == "rows":
@@ -25,7 +24,6 @@ class Console:
         if word == "change":
             return self._make(parts[0])
         question = parts[-1]
-        question.check(*tables)
         if word == "ask":
             return _rows_text(question.answer_in(self._store))
         if word == "stand":

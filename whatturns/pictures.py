@@ -21,12 +21,12 @@ class Picture:
             self._name_all(names)
 
     def is_true(self, fact):
-        """Whether a fact is true with these values."""
+        """Whether a fact of a branch, which is never one with `<=`, is true with these values."""
         one, operator, other = fact
         left, right = self.value_of(one), self.value_of(other)
-        if operator in ("=", "!="):
-            return (left == right) == (operator == "=")
-        return left < right or (operator == "<=" and left == right)
+        if operator == "<":
+            return left < right
+        return (left == right) == (operator == "=")
 
     def value_of(self, term):
         """The value of a term."""

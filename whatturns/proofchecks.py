@@ -1,7 +1,6 @@
 """Whether a value is a tree that shows that a scene cannot be."""
 
 from whatturns.facts import are_clashing, is_fact
-from whatturns.values import is_number
 
 
 def is_proof(thing, scene):
@@ -51,6 +50,6 @@ def _split_branches(fact, facts, numbers):
     if not is_fact(fact) or fact[1] != "!=" or fact not in facts:
         return None
     one, _, other = fact
-    if not is_number(one) and one not in numbers:
+    if one not in numbers:
         return None
     return [[(one, "<", other)], [(other, "<", one)]]

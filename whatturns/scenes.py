@@ -35,14 +35,14 @@ class Wanted:
 class Scene:
     """Rows, as (table, terms) by their names, the facts at the root, and what else a tree may use.
 
-    The times are lists of the names of rows that are there together; the last of them is the one for other ways to
+    The moments are lists of the names of rows that are there together; the last of them is the one for other ways to
     have the row with these kept terms. The strangers are the rows that are neither the new nor the old one.
     """
 
-    def __init__(self, rows, root, times, strangers, wanted, kept):
+    def __init__(self, rows, root, moments, strangers, wanted, kept):
         self.rows = rows
         self.root = root
-        self.times = times
+        self.moments = moments
         self.strangers = strangers
         self.wanted = wanted
         self.kept = kept
@@ -57,7 +57,7 @@ class Scene:
 
     def way_rows(self, name):
         """The names of the rows of the table with this name that another way may use."""
-        return [row for row in self.times[-1] if self.rows[row][0].name == name]
+        return [row for row in self.moments[-1] if self.rows[row][0].name == name]
 
     def way_branches(self, names):
         """For each condition and each kept column of another way the list of the fact that it fails."""
@@ -73,7 +73,7 @@ class Scene:
 
     def key_branches(self, first, second):
         """The facts that two rows are the same, then for each column of the key that they differ there."""
-        if first == second or not any([first in time and second in time for time in self.times]):
+        if first == second or not any([first in moment and second in moment for moment in self.moments]):
             return None
         table, pairs = self._pairs(first, second)
         if not pairs or not table.key:
@@ -126,8 +126,8 @@ def change_scenes(shape, bounds, select, tables):
                 match = [name if place in places else alias for place, (alias, _) in enumerate(select.uses)]
                 unknown = _unknown_rows(select.uses, match, tables)
                 aliases = list(unknown)
-                times = [[name, *aliases], [other, *aliases] if other in changed else aliases]
-                found.append((part, places, _scene({**changed, **unknown}, facts, times, match, wanted, wanted)))
+                moments = [[name, *aliases], [other, *aliases] if other in changed else aliases]
+                found.append((part, places, _scene({**changed, **unknown}, facts, moments, match, wanted, wanted)))
     return found
 
 
@@ -138,11 +138,11 @@ def within_scene(first, second, tables):
     return _scene(rows, [], [match], match, Wanted(first, tables), Wanted(second, tables))
 
 
-def _scene(rows, facts, times, match, matched, wanted):
+def _scene(rows, facts, moments, match, matched, wanted):
     """The scene of a match with the rows of these names."""
     terms = [rows[name][1] for name in match]
     strangers = [name for name in rows if name not in (_NEW, _OLD)]
-    return Scene(rows, facts + matched.facts_with(terms), times, strangers, wanted, matched.kept_of_terms(terms))
+    return Scene(rows, facts + matched.facts_with(terms), moments, strangers, wanted, matched.kept_of_terms(terms))
 
 
 def _unknown_rows(uses, match, tables):
