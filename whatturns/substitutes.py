@@ -1,7 +1,7 @@
 """The tree of a form read with a template: columns that have a value, and columns that have the same parameter."""
 
 from whatturns.templates import is_parameter
-from whatturns.trees import names_tree, numbers_tree, tree_at_name
+from whatturns.trees import names_to_try, names_tree, numbers_tree, tree_at_name
 
 
 def substituted(tree, template):
@@ -34,18 +34,17 @@ def _tied(tree, depth):
         ends = sorted({end for node in [tree, *tree[2]] for end in node[1]})
         values = [*ends, ends[-1] + 1 if ends else 0]
         return numbers_tree(ends, [_twice_at(tree, value) for value in values])
-    _, told, _, others = tree
-    names = sorted({name for name, _ in [*told, *others[1]]})
+    others = tree[3]
     alike = others[3] if others[2] is None else others[2]
-    return names_tree([(name, _twice_at(tree, name)) for name in names], None, alike)
+    return names_tree([(name, _twice_at(tree, name)) for name in names_to_try([tree])], None, alike)
 
 
 def _rebuilt(tree, more_names, changed):
-    """The tree with what the function makes of the trees below; names that may be told there are given."""
+    """The tree with what the function makes of the trees below; more names that may be told there are given."""
     if tree[0] == "numbers":
         return numbers_tree(tree[1], [changed(below) for below in tree[2]])
-    _, told, alike, others = tree
-    names = sorted(set([name for name, _ in told] + more_names))
+    _, _, alike, others = tree
+    names = sorted(set(names_to_try([tree]) + more_names))
     return names_tree([(name, changed(tree_at_name(tree, name))) for name in names],
                       None if alike is None else changed(alike), changed(others))
 

@@ -93,15 +93,15 @@ def _merged_names(trees, results):
     alike = None
     if any([tree[2] is not None for tree in trees]):
         alike = merged([tree[3] if tree[2] is None else tree[2] for tree in trees], results)
-    names = _names_to_try(trees)
+    names = names_to_try(trees)
     return names_tree([(name, merged([tree_at_name(tree, name) for tree in trees], results)) for name in names],
                       alike, others)
 
 
-def _names_to_try(trees):
-    """The names at which the trees may differ from what they have for the others."""
+def names_to_try(trees):
+    """The names that a tree made from these trees at a name column may have to tell."""
     # A row with one name twice counts as told where the name is told at the second column, and as alike elsewhere. If
-    # the trees differ in this, the name may have to be told at the first column.
+    # the trees, or the tree that is made, differ in this, the name may have to be told at the first column.
     below = [tree[3] for tree in trees if tree[3][0] == "names"]
     return sorted({name for tree in [*trees, *below] for name, _ in tree[1]})
 
